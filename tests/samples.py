@@ -3,6 +3,7 @@
 from collections import deque
 from decimal import Decimal
 from fractions import Fraction
+from itertools import combinations_with_replacement, permutations
 
 
 class Stubborn:
@@ -50,3 +51,54 @@ def no_rows():
     looped.append(looped)
     rows.append(looped)
     return rows
+
+
+def drawn_row(draw, count, least, most):
+    return [draw.randint(least, most) for place in range(count)]
+
+
+def drawn_like(draw, row, least, most):
+    """A drawn row of as many shares and the same whole as the row, whose shares lie from the least to the most."""
+    other = drawn_row(draw, len(row), least, most)
+    missing = sum(row) - sum(other)
+    for place in draw.sample(range(len(row)), len(row)):
+        step = max(least - other[place], min(most - other[place], missing))
+        other[place] += step
+        missing -= step
+    return other
+
+
+def evened(draw, row, many):
+    """The row behind so many drawn fair gifts, its shares in a drawn order."""
+    behind = list(row)
+    for turn in range(many):
+        giver, taker = draw.randrange(len(row)), draw.randrange(len(row))
+        if behind[giver] - behind[taker] >= 2:
+            amount = draw.randint(1, (behind[giver] - behind[taker]) // 2)
+            behind[giver] -= amount
+            behind[taker] += amount
+    draw.shuffle(behind)
+    return behind
+
+
+def all_rows(count, least, most):
+    """Every row of so many shares, but each in one order alone."""
+    return [list(row) for row in combinations_with_replacement(range(least, most + 1), count)]
+
+
+def led_to(row):
+    """All rows, each as a rising tuple, to which fair gifts lead from the row, found by trying all gifts."""
+    found = {tuple(sorted(row))}
+    fresh = list(found)
+    while fresh:
+        start = fresh.pop()
+        for giver, taker in permutations(range(len(start)), 2):
+            for amount in range(1, (start[giver] - start[taker]) // 2 + 1):
+                behind = list(start)
+                behind[giver] -= amount
+                behind[taker] += amount
+                behind = tuple(sorted(behind))
+                if behind not in found:
+                    found.add(behind)
+                    fresh.append(behind)
+    return found

@@ -1,6 +1,7 @@
 """The package's files, held against those rules of the language that a short test can see."""
 
 import ast
+import builtins
 import re
 import unittest
 from pathlib import Path
@@ -17,6 +18,18 @@ RULED_OUT = (
     ast.AsyncFunctionDef, ast.AsyncFor, ast.AsyncWith, ast.Div, ast.MatMult, ast.SetComp, ast.DictComp,
     ast.GeneratorExp, ast.NamedExpr, ast.Starred, ast.Import, ast.TryStar,
 )
+
+BUILT_IN = """
+len range enumerate zip min max sum abs sorted reversed int str bool list tuple dict set frozenset isinstance ord repr
+any all divmod Exception ValueError TypeError KeyError IndexError LookupError ZeroDivisionError ArithmeticError
+OverflowError RuntimeError NotImplementedError AttributeError StopIteration
+""".split()
+
+METHODS = """
+append clear copy count endswith extend find get index insert isalnum isalpha isdigit islower isspace isupper items
+join keys ljust lower lstrip partition pop remove replace reverse rfind rjust rpartition rsplit rstrip setdefault split
+splitlines startswith strip update upper values zfill bit_length
+""".split()
 
 DUNDERS = ("__init__", "__eq__", "__repr__", "__str__", "__len__")
 
@@ -62,6 +75,25 @@ class Language(unittest.TestCase):
                     self.assertIsInstance(node.value, (int, str, type(None)))
                 if isinstance(node, (ast.For, ast.While)):
                     self.assertEqual(node.orelse, [])
+
+    def test_names_of_pythons_own(self):
+        own = set(dir(builtins))
+        for path, node in nodes():
+            with self.subTest(file=path.name, line=getattr(node, "lineno", None)):
+                if isinstance(node, ast.Name) and node.id in own:
+                    self.assertIsInstance(node.ctx, ast.Load)
+                    self.assertIn(node.id, BUILT_IN)
+                if isinstance(node, ast.arg):
+                    self.assertNotIn(node.arg, own)
+                if isinstance(node, ast.Name):
+                    self.assertFalse(node.id.startswith("_"))
+
+    def test_methods(self):
+        defined = [node.name for path, node in nodes() if isinstance(node, ast.FunctionDef)]
+        for path, node in nodes():
+            if isinstance(node, ast.Call) and isinstance(node.func, ast.Attribute):
+                with self.subTest(file=path.name, line=node.lineno):
+                    self.assertIn(node.func.attr, METHODS + defined)
 
     def test_functions_and_classes(self):
         for path, node in nodes():
